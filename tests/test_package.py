@@ -1,0 +1,144 @@
+"""Point 1 and the beginning of the interface, for all files of the package."""
+
+import ast
+import builtins
+import copy
+import inspect
+import pathlib
+import unittest
+
+from cushioned import balls, errors, notation, tables
+
+PACKAGE = pathlib.Path(__file__).resolve().parent.parent / "cushioned"
+BUILTINS = {
+    "ValueError", "abs", "all", "any", "bool", "divmod", "enumerate", "int", "isinstance", "len",
+    "list", "max", "min", "range", "reversed", "set", "sorted", "str", "sum", "super", "tuple", "zip",
+}
+LIBRARY = {("math", "gcd"), ("math", "lcm")}
+INTERFACE = {
+    balls: {
+        "is_name": "(text)",
+        "is_ball": "(table, ball)",
+        "check_ball": "(table, ball)",
+        "check_balls": "(table, balls)",
+        "back": "(table, ball)",
+        "mirrored": "(table, ball, *, sides=True, ends=True)",
+        "turned": "(table, ball)",
+    },
+    notation: {"format_setup": "(table, balls)", "parse_setup": "(text)"},
+    tables: {"Table": "(width, height, pockets=())"},
+    errors: {
+        "UnknownName": "(name)",
+        "InvalidNotation": "(line)",
+        "InvalidPaper": "(line)",
+    },
+}
+TABLE_METHODS = {
+    "is_point": "(self, point)",
+    "check_point": "(self, point)",
+    "is_edge": "(self, point)",
+    "is_corner": "(self, point)",
+    "is_pocket": "(self, point)",
+    "corners": "(self)",
+    "with_size": "(self, width, height)",
+    "with_pocket": "(self, point)",
+    "without_pocket": "(self, point)",
+    "turned": "(self)",
+}
+
+
+def all_nodes():
+    """Yield the name of each file of the package with each node of its tree."""
+    for path in sorted(PACKAGE.glob("**/*.py")):
+        for node in ast.walk(ast.parse(path.read_text(encoding="ascii"))):
+            yield path.name, node
+
+
+class FilesTest(unittest.TestCase):
+    def test_there_are_files(self):
+        self.assertGreater(len(list(all_nodes())), 100)
+
+    def test_init_defines_nothing(self):
+        tree = ast.parse((PACKAGE / "__init__.py").read_text(encoding="ascii"))
+        self.assertEqual(tree.body, [])
+
+    def test_nothing_but_the_package_is_imported(self):
+        for name, node in all_nodes():
+            self.assertNotIsInstance(node, ast.Import, name)
+            if isinstance(node, ast.ImportFrom) and not node.module.startswith("cushioned."):
+                for word in node.names:
+                    self.assertIn((node.module, word.name), LIBRARY, name)
+
+    def test_no_other_builtins_are_used(self):
+        for name, node in all_nodes():
+            if isinstance(node, ast.Name) and hasattr(builtins, node.id):
+                self.assertIn(node.id, BUILTINS, name)
+
+    def test_all_numbers_are_integers(self):
+        for name, node in all_nodes():
+            self.assertNotIsInstance(node, ast.Div, name)
+            if isinstance(node, ast.Constant):
+                self.assertNotIsInstance(node.value, (float, complex), name)
+
+    def test_sizes_of_files_functions_and_lines(self):
+        for path in PACKAGE.glob("**/*.py"):
+            lines = path.read_text(encoding="ascii").split("\n")
+            self.assertLess(len(lines), 400, path)
+            self.assertLessEqual(max(map(len, lines)), 120, path)
+        for name, node in all_nodes():
+            if isinstance(node, ast.FunctionDef):
+                self.assertLessEqual(node.end_lineno - node.lineno + 1, 40, (name, node.name))
+
+
+class InterfaceTest(unittest.TestCase):
+    def test_functions_and_classes_stand_in_their_files(self):
+        for module, names in INTERFACE.items():
+            for name, arguments in names.items():
+                thing = getattr(module, name)
+                self.assertEqual(thing.__module__, module.__name__)
+                self.assertEqual(str(inspect.signature(thing)), arguments, name)
+
+    def test_methods_stand_in_their_class(self):
+        for name, arguments in TABLE_METHODS.items():
+            method = vars(tables.Table)[name]
+            self.assertEqual(str(inspect.signature(method)), arguments, name)
+
+
+class ArgumentsTest(unittest.TestCase):
+    """No function modifies what it is passed."""
+
+    def setUp(self):
+        self.pockets = [[4, 1], [0, 0]]
+        self.balls = [("red", 1, 2, -1, 0, 7), ("b2", 4, 3, 1, 1, 0)]
+        self.table = tables.Table(4, 3, self.pockets)
+        self.before = copy.deepcopy(self.told())
+
+    def told(self):
+        return (self.pockets, self.balls, vars(self.table))
+
+    def tearDown(self):
+        self.assertEqual(self.told(), self.before)
+
+    def test_tables(self):
+        self.table.with_size(9, 9)
+        self.table.with_pocket((1, 1))
+        self.table.without_pocket((0, 0))
+        self.table.turned()
+        self.table.corners().clear()
+
+    def test_balls(self):
+        balls.check_balls(self.table, self.balls)
+        for ball in self.balls:
+            balls.back(self.table, ball)
+            balls.mirrored(self.table, ball)
+            balls.turned(self.table, ball)
+
+    def test_notation(self):
+        text = notation.format_setup(self.table, self.balls)
+        found = notation.parse_setup(text)[1]
+        self.assertEqual(found, self.balls)
+        found.clear()
+
+
+if __name__ == "__main__":
+    unittest.main()
