@@ -6,6 +6,7 @@ import copy
 import inspect
 import pathlib
 import unittest
+import warnings
 
 from cushioned import balls, errors, notation, tables
 
@@ -79,6 +80,12 @@ class FilesTest(unittest.TestCase):
             self.assertNotIsInstance(node, ast.Div, name)
             if isinstance(node, ast.Constant):
                 self.assertNotIsInstance(node.value, (float, complex), name)
+
+    def test_python_warns_of_no_line(self):
+        with warnings.catch_warnings():
+            warnings.simplefilter("error")
+            for path in PACKAGE.glob("**/*.py"):
+                compile(path.read_text(encoding="ascii"), str(path), "exec")
 
     def test_sizes_of_files_functions_and_lines(self):
         for path in PACKAGE.glob("**/*.py"):
