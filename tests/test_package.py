@@ -8,7 +8,7 @@ import pathlib
 import unittest
 import warnings
 
-from cushioned import balls, errors, notation, tables
+from cushioned import balls, congruences, errors, meetings, notation, runs, tables, times
 
 PACKAGE = pathlib.Path(__file__).resolve().parent.parent / "cushioned"
 BUILTINS = {
@@ -28,23 +28,57 @@ INTERFACE = {
     },
     notation: {"format_setup": "(table, balls)", "parse_setup": "(text)"},
     tables: {"Table": "(width, height, pockets=())"},
+    runs: {
+        "place_at": "(table, ball, minute)",
+        "heading_at": "(table, ball, minute)",
+        "agreed": "(one, other)",
+        "period": "(table, ball)",
+        "corner_minutes": "(table, ball)",
+        "goes_back": "(table, ball)",
+        "point_count": "(table, ball)",
+        "point_minutes": "(table, ball, point)",
+        "is_passed": "(table, ball, point)",
+        "first_return": "(table, ball)",
+        "hits": "(table, ball, edge, until)",
+    },
+    congruences: {
+        "chinese": "(one, other)",
+        "solved": "(factor, right, modulus)",
+        "point_classes": "(size, at, step, goal)",
+        "meeting_classes": "(size, at, step, other, move)",
+    },
+    times: {"Times": "(start, end, classes)", "both": "(one, other)"},
+    meetings: {
+        "at_point": "(table, ball, point)",
+        "meetings": "(table, one, other)",
+        "all_meet": "(table, balls)",
+        "first_meeting": "(table, one, other, *, minute=0)",
+    },
     errors: {
         "UnknownName": "(name)",
         "InvalidNotation": "(line)",
         "InvalidPaper": "(line)",
     },
 }
-TABLE_METHODS = {
-    "is_point": "(self, point)",
-    "check_point": "(self, point)",
-    "is_edge": "(self, point)",
-    "is_corner": "(self, point)",
-    "is_pocket": "(self, point)",
-    "corners": "(self)",
-    "with_size": "(self, width, height)",
-    "with_pocket": "(self, point)",
-    "without_pocket": "(self, point)",
-    "turned": "(self)",
+METHODS = {
+    tables.Table: {
+        "is_point": "(self, point)",
+        "check_point": "(self, point)",
+        "is_edge": "(self, point)",
+        "is_corner": "(self, point)",
+        "is_pocket": "(self, point)",
+        "corners": "(self)",
+        "with_size": "(self, width, height)",
+        "with_pocket": "(self, point)",
+        "without_pocket": "(self, point)",
+        "turned": "(self)",
+    },
+    times.Times: {
+        "holds": "(self, minute)",
+        "next_from": "(self, minute)",
+        "number_to": "(self, minute)",
+        "is_empty": "(self)",
+    },
 }
 
 
@@ -106,9 +140,10 @@ class InterfaceTest(unittest.TestCase):
                 self.assertEqual(str(inspect.signature(thing)), arguments, name)
 
     def test_methods_stand_in_their_class(self):
-        for name, arguments in TABLE_METHODS.items():
-            method = vars(tables.Table)[name]
-            self.assertEqual(str(inspect.signature(method)), arguments, name)
+        for kind, methods in METHODS.items():
+            for name, arguments in methods.items():
+                method = vars(kind)[name]
+                self.assertEqual(str(inspect.signature(method)), arguments, name)
 
 
 class ArgumentsTest(unittest.TestCase):
@@ -117,11 +152,15 @@ class ArgumentsTest(unittest.TestCase):
     def setUp(self):
         self.pockets = [[4, 1], [0, 0]]
         self.balls = [("red", 1, 2, -1, 0, 7), ("b2", 4, 3, 1, 1, 0)]
+        self.point = [1, 2]
+        self.classes = [[5, 8], (2, 4)]
         self.table = tables.Table(4, 3, self.pockets)
+        self.times = times.Times(3, 90, self.classes)
         self.before = copy.deepcopy(self.told())
 
     def told(self):
-        return (self.pockets, self.balls, vars(self.table))
+        kept = (vars(self.table), vars(self.times))
+        return (self.pockets, self.balls, self.point, self.classes, kept)
 
     def tearDown(self):
         self.assertEqual(self.told(), self.before)
@@ -145,6 +184,30 @@ class ArgumentsTest(unittest.TestCase):
         found = notation.parse_setup(text)[1]
         self.assertEqual(found, self.balls)
         found.clear()
+
+    def test_runs(self):
+        for ball in self.balls:
+            runs.place_at(self.table, ball, 9)
+            runs.heading_at(self.table, ball, 9)
+            runs.first_return(self.table, ball)
+            runs.is_passed(self.table, ball, self.point)
+            runs.point_minutes(self.table, ball, self.point).clear()
+        runs.agreed(self.classes[0], self.classes[1])
+
+    def test_classes_and_times(self):
+        congruences.chinese(self.classes[0], self.classes[1])
+        found = times.both(self.times, self.times)
+        found.classes.clear()
+        self.times.next_from(4)
+        self.times.number_to(80)
+
+    def test_meetings(self):
+        meetings.all_meet(self.table, self.balls).classes.clear()
+        meetings.all_meet(self.table, [self.balls[0]] * 3).classes.clear()
+        for ball in self.balls:
+            meetings.at_point(self.table, ball, self.point).classes.clear()
+            meetings.meetings(self.table, ball, self.balls[0]).classes.clear()
+            meetings.first_meeting(self.table, ball, self.balls[0], minute=7)
 
 
 if __name__ == "__main__":

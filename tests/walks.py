@@ -1,0 +1,88 @@
+"""Balls walked step by step, as point 13 tells it, for the tests of all that is reckoned."""
+
+import math
+
+from cushioned.tables import Table
+
+GREAT = 10 ** 30
+DIRECTIONS = [(-1, -1), (-1, 0), (-1, 1), (0, -1), (0, 1), (1, -1), (1, 0), (1, 1)]
+SIZES = [(1, 1), (1, 2), (2, 1), (1, 4), (3, 1), (2, 2), (3, 2), (2, 4), (3, 3), (4, 3), (6, 4)]
+
+
+def points(table):
+    return [(x, y) for x in range(table.width + 1) for y in range(table.height + 1)]
+
+
+def balls_on(table, minute, name="a"):
+    """Return the balls at all points in all directions."""
+    return [(name, *point, *way, minute) for point in points(table) for way in DIRECTIONS]
+
+
+def small_tables(sizes=None):
+    return [Table(width, height) for width, height in (sizes or SIZES)]
+
+
+def small_balls(sizes=None, minutes=(0, 5)):
+    """Return pairs of a small table and a ball on it."""
+    return [
+        (table, ball)
+        for table in small_tables(sizes) for minute in minutes for ball in balls_on(table, minute)
+    ]
+
+
+def next_step(place, step, side):
+    """Return the step that is taken: the other one if this one would leave the table."""
+    return step if 0 <= place + step <= side else -step
+
+
+def walk(table, ball, many):
+    """Return minute, place and next steps for some minutes from the own minute on."""
+    _, x, y, dx, dy, start = ball
+    rows = []
+    for minute in range(start, start + many):
+        dx, dy = next_step(x, dx, table.width), next_step(y, dy, table.height)
+        rows.append((minute, (x, y), (dx, dy)))
+        x, y = x + dx, y + dy
+    return rows
+
+
+def walked_places(table, ball, many):
+    """Return a dict of the places at the minutes."""
+    return {minute: place for minute, place, _ in walk(table, ball, many)}
+
+
+def turns(table):
+    """Return a number of minutes behind which every ball on the table is where it was."""
+    return 4 * table.width * table.height
+
+
+def listed(classes, low, high):
+    """Return the minutes of some classes (remainder or first, modulus) from low to high, each time they occur."""
+    return sorted([
+        minute for first, modulus in classes
+        for minute in range(low + (first - low) % modulus, high + 1, modulus)
+    ])
+
+
+def pairs_of_classes():
+    """Return rows of two classes and the class of the numbers in both, found one by one, or None."""
+    classes = [(r, m) for m in range(1, 13) for r in range(m)]
+    rows = []
+    for one in classes:
+        for other in classes:
+            whole = math.lcm(one[1], other[1])
+            numbers = [k for k in range(one[0], whole, one[1]) if k % other[1] == other[0]]
+            rows.append((one, other, (numbers[0], whole) if numbers else None))
+    return rows
+
+
+def great_pairs_of_classes(number):
+    """Return rows of two classes of a number, modulo numbers of 30 and more figures, and their class."""
+    rows = []
+    for m, n in (
+        (GREAT, 10 ** 29 - 4), (10 ** 29 + 1, 10 ** 29 + 3), (GREAT, GREAT), (GREAT, 6),
+        (2 * GREAT, 2 * GREAT - 2), (GREAT ** 2 + 1, GREAT ** 2),
+    ):
+        whole = math.lcm(m, n)
+        rows.append(((number % m, m), (number % n, n), (number % whole, whole)))
+    return rows
