@@ -8,7 +8,7 @@ from cushioned.runs import place_at
 from cushioned.tables import Table
 from cushioned.times import Times
 
-from walks import GREAT, balls_on, points, small_balls, small_tables, turns, walked_places
+from walks import GREAT, balls_on, groups, points, small_balls, small_tables, turns, walked_places
 
 TABLE = Table(3, 5)
 RED = ("red", 0, 0, 1, 1, 0)
@@ -20,21 +20,6 @@ NO_BALLS = [
     ("red", 0, 0, 1, 1, GREAT + 1),
 ]
 NO_POINTS = [(4, 0), (0, 6), (-1, 0), [0, -1]]
-ROWS = [(0, 0, 1, 1, 3), (0, 0, -1, 0, 0), (1, 0, 0, -1, 7), (1, 1, 1, -1, 2), (0, 1, -1, -1, 5)]
-
-
-def some_balls(table):
-    """Return a few balls that start at several minutes."""
-    return [("b" + str(k), *row) for k, row in enumerate(ROWS)] + balls_on(table, 1)[::5]
-
-
-def groups(table, many):
-    """Return lists of balls, among them one ball given several times and balls of one name."""
-    balls = some_balls(table)
-    first = [[ball] * many for ball in balls[:3]]
-    return first + [
-        [balls[(k + at * (1 + k % 3)) % len(balls)] for at in range(many)] for k in range(3 * len(balls))
-    ]
 
 
 class TimesCase(unittest.TestCase):

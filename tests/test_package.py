@@ -8,7 +8,8 @@ import pathlib
 import unittest
 import warnings
 
-from cushioned import balls, congruences, errors, meetings, notation, runs, tables, times
+from cushioned import (
+    aims, balls, congruences, errors, falls, meetings, nevers, notation, runs, starts, tables, times)
 
 PACKAGE = pathlib.Path(__file__).resolve().parent.parent / "cushioned"
 BUILTINS = {
@@ -53,6 +54,23 @@ INTERFACE = {
         "meetings": "(table, one, other)",
         "all_meet": "(table, balls)",
         "first_meeting": "(table, one, other, *, minute=0)",
+    },
+    nevers: {
+        "never": "(table, one, other)",
+        "check_never": "(table, one, other, rows)",
+    },
+    falls: {
+        "first_fall": "(table, ball)",
+        "fall_of": "(table, ball)",
+        "falls": "(table, balls)",
+        "never_fall": "(table, balls)",
+    },
+    starts: {"slanting_starts": "(table)", "straight_starts": "(table)"},
+    aims: {
+        "pocket_aims": "(table, point, minute, pocket)",
+        "meeting_aims": "(table, point, minute, ball)",
+        "in_order": "(table, ball, points)",
+        "order_aims": "(table, point, minute, points)",
     },
     errors: {
         "UnknownName": "(name)",
@@ -208,6 +226,28 @@ class ArgumentsTest(unittest.TestCase):
             meetings.at_point(self.table, ball, self.point).classes.clear()
             meetings.meetings(self.table, ball, self.balls[0]).classes.clear()
             meetings.first_meeting(self.table, ball, self.balls[0], minute=7)
+
+    def test_nevers(self):
+        for ball in self.balls:
+            rows = nevers.never(self.table, ball, self.balls[0])
+            rows = [["pair", 1, 8, 0, 6, 2], ("x",)] if rows is None else rows
+            before = copy.deepcopy(rows)
+            nevers.check_never(self.table, ball, self.balls[0], rows)
+            self.assertEqual(rows, before)
+
+    def test_falls_and_starts(self):
+        falls.falls(self.table, self.balls).clear()
+        falls.never_fall(self.table, self.balls).clear()
+        starts.slanting_starts(self.table)[0].clear()
+        starts.straight_starts(self.table)[0].clear()
+
+    def test_aims(self):
+        aims.pocket_aims(self.table, self.point, 3, self.pockets[0]).clear()
+        aims.meeting_aims(self.table, self.point, 3, self.balls[0]).clear()
+        goals = [self.point, self.pockets[0]]
+        aims.order_aims(self.table, self.point, 3, goals).clear()
+        aims.in_order(self.table, self.balls[0], goals)
+        self.assertEqual(goals, [self.point, self.pockets[0]])
 
 
 if __name__ == "__main__":

@@ -10,8 +10,8 @@ from cushioned.runs import (
 from cushioned.tables import Table
 
 from walks import (
-    DIRECTIONS, GREAT, balls_on, great_pairs_of_classes, listed, pairs_of_classes, points,
-    small_balls, small_tables, turns, walk)
+    DIRECTIONS, GREAT, balls_on, enlarged, great_pairs_of_classes, listed, pairs_of_classes,
+    points, small_balls, small_tables, turns, walk)
 
 TABLE = Table(4, 2)
 BALL = ("b", 0, 1, 1, 1, 10)
@@ -30,12 +30,6 @@ def is_at(edge, table, place):
     return {
         "left": x == 0, "right": x == table.width, "bottom": y == 0, "top": y == table.height,
     }[edge]
-
-
-def enlarged(table, ball, factor):
-    name, x, y, dx, dy, minute = ball
-    great = Table(table.width * factor, table.height * factor)
-    return (great, (name, x * factor, y * factor, dx, dy, minute * factor))
 
 
 class PlaceTest(unittest.TestCase):

@@ -6,6 +6,7 @@ from cushioned.tables import Table
 
 GREAT = 10 ** 30
 DIRECTIONS = [(-1, -1), (-1, 0), (-1, 1), (0, -1), (0, 1), (1, -1), (1, 0), (1, 1)]
+ROWS = [(0, 0, 1, 1, 3), (0, 0, -1, 0, 0), (1, 0, 0, -1, 7), (1, 1, 1, -1, 2), (0, 1, -1, -1, 5)]
 SIZES = [(1, 1), (1, 2), (2, 1), (1, 4), (3, 1), (2, 2), (3, 2), (2, 4), (3, 3), (4, 3), (6, 4)]
 
 
@@ -30,6 +31,40 @@ def small_balls(sizes=None, minutes=(0, 5)):
     ]
 
 
+def some_balls(table):
+    """Return a few balls that start at several minutes."""
+    return [("b" + str(k), *row) for k, row in enumerate(ROWS)] + balls_on(table, 1)[::5]
+
+
+def groups(table, many):
+    """Return lists of balls, among them one ball given several times and balls of one name."""
+    balls = some_balls(table)
+    first = [[ball] * many for ball in balls[:3]]
+    return first + [
+        [balls[(k + at * (1 + k % 3)) % len(balls)] for at in range(many)] for k in range(3 * len(balls))
+    ]
+
+
+def tables_with_pockets():
+    """Return small tables with 0 to 3 pockets, at corners, at edges and inside."""
+    tables = []
+    for w, h in SIZES:
+        for pockets in (
+            [], [(0, 0)], [(w, h), (0, h // 2)], [(w // 2, h // 2)], [(w, 0), (0, h), (w // 2, h)],
+            [(w - 1, h - 1), (w, h - 1), (w - 1, h)], [(w, 0), (w - 1, 1)],
+        ):
+            tables.append(Table(w, h, list(dict.fromkeys(pockets))))
+    return tables
+
+
+def enlarged(table, ball, factor):
+    """Return the table and the ball, both so many times as great."""
+    name, x, y, dx, dy, minute = ball
+    pockets = [(factor * left, factor * low) for left, low in table.pockets]
+    great = Table(table.width * factor, table.height * factor, pockets)
+    return (great, (name, x * factor, y * factor, dx, dy, minute * factor))
+
+
 def next_step(place, step, side):
     """Return the step that is taken: the other one if this one would leave the table."""
     return step if 0 <= place + step <= side else -step
@@ -49,6 +84,14 @@ def walk(table, ball, many):
 def walked_places(table, ball, many):
     """Return a dict of the places at the minutes."""
     return {minute: place for minute, place, _ in walk(table, ball, many)}
+
+
+def walked_fall(table, ball):
+    """Return the minute at which the ball falls in a walk and the pocket, or None."""
+    for minute, place, _ in walk(table, ball, turns(table)):
+        if place in table.pockets:
+            return (minute, place)
+    return None
 
 
 def turns(table):
