@@ -9,14 +9,16 @@ import unittest
 import warnings
 
 from cushioned import (
-    aims, balls, congruences, errors, falls, meetings, nevers, notation, runs, starts, tables, times)
+    aims, balls, book, commands, congruences, errors, falls, games, meetings, nevers, notation, runs,
+    session, starts, tables, times)
 
 PACKAGE = pathlib.Path(__file__).resolve().parent.parent / "cushioned"
 BUILTINS = {
     "ValueError", "abs", "all", "any", "bool", "divmod", "enumerate", "int", "isinstance", "len",
-    "list", "max", "min", "range", "reversed", "set", "sorted", "str", "sum", "super", "tuple", "zip",
+    "list", "max", "min", "property", "range", "reversed", "set", "sorted", "str", "sum", "super", "tuple",
+    "zip",
 }
-LIBRARY = {("math", "gcd"), ("math", "lcm")}
+LIBRARY = {("itertools", "combinations"), ("math", "gcd"), ("math", "lcm")}
 INTERFACE = {
     balls: {
         "is_name": "(text)",
@@ -72,6 +74,10 @@ INTERFACE = {
         "in_order": "(table, ball, points)",
         "order_aims": "(table, point, minute, points)",
     },
+    games: {"Game": "(table, balls=())"},
+    book: {"Book": "()"},
+    commands: {"split_words": "(line)", "is_command": "(words)"},
+    session: {"Session": "()"},
     errors: {
         "UnknownName": "(name)",
         "InvalidNotation": "(line)",
@@ -97,6 +103,32 @@ METHODS = {
         "number_to": "(self, minute)",
         "is_empty": "(self)",
     },
+    games.Game: {
+        "ball": "(self, name)",
+        "life": "(self, name)",
+        "stands": "(self, name, minute)",
+        "places": "(self, minute)",
+        "meetings": "(self, one, other)",
+        "first_meetings": "(self)",
+        "next_meeting": "(self, minute)",
+        "company": "(self, name)",
+        "fall_order": "(self)",
+        "with_ball": "(self, ball)",
+        "without_ball": "(self, name)",
+    },
+    book.Book: {
+        "set_game": "(self, name, table, balls)",
+        "drop_game": "(self, name)",
+        "put_ball": "(self, name, ball)",
+        "take_ball": "(self, name, ball_name)",
+        "undo": "(self)",
+        "redo": "(self)",
+        "change_all": "(self, changes)",
+        "game_names": "(self)",
+        "game": "(self, name)",
+        "report": "(self, name)",
+    },
+    session.Session: {"run": "(self, text)"},
 }
 
 
@@ -162,6 +194,20 @@ class InterfaceTest(unittest.TestCase):
             for name, arguments in methods.items():
                 method = vars(kind)[name]
                 self.assertEqual(str(inspect.signature(method)), arguments, name)
+
+    def test_names_are_a_property_of_games(self):
+        self.assertIs(type(vars(games.Game)["names"]), property)
+
+    def test_attributes_are_set_when_an_object_is_created(self):
+        table = tables.Table(4, 3)
+        for thing, names in (
+            (table, ["width", "height", "pockets"]), (times.Times(0, None, []), ["start", "end", "classes"]),
+            (games.Game(table), ["table", "balls"]), (book.Book(), ["decided", "kept"]),
+            (session.Session(), ["book"]), (errors.UnknownName("a"), ["name"]),
+            (errors.InvalidNotation(1), ["line"]), (errors.InvalidPaper(1), ["line"]),
+        ):
+            for name in names:
+                self.assertIn(name, vars(thing))
 
 
 class ArgumentsTest(unittest.TestCase):
@@ -248,6 +294,38 @@ class ArgumentsTest(unittest.TestCase):
         aims.order_aims(self.table, self.point, 3, goals).clear()
         aims.in_order(self.table, self.balls[0], goals)
         self.assertEqual(goals, [self.point, self.pockets[0]])
+
+    def test_games(self):
+        game = games.Game(self.table, self.balls)
+        before = (copy.deepcopy(vars(game.table)), game.balls)
+        for found in (
+            game.places(9), game.first_meetings(), game.company("red"), game.fall_order(),
+            game.meetings("red", "b2").classes,
+        ):
+            found.clear()
+        game.with_ball(("b3", 0, 0, 1, 1, 0))
+        game.without_ball("red")
+        game.next_meeting(7)
+        self.assertEqual((vars(game.table), game.balls), before)
+
+    def test_books_and_sessions(self):
+        kept = book.Book()
+        ball = ("b3", 0, 0, 1, 1, 0)
+        changes = [("set_game", "g", self.table, self.balls), ("put_ball", "g", ball)]
+        before = copy.deepcopy([change[:2] for change in changes])
+        kept.change_all(changes)
+        kept.set_game("h", self.table, self.balls)
+        kept.put_ball("h", ball)
+        kept.take_ball("h", "red")
+        kept.game_names().clear()
+        kept.report("g")
+        self.assertEqual([change[:2] for change in changes], before)
+        self.assertIs(changes[0][3], self.balls)
+        self.assertEqual(kept.game("g").balls, (*self.balls, ball))
+        session.Session().run("game g\ntable 1 1\nend").clear()
+        words = commands.split_words("take g a")
+        commands.is_command(words)
+        self.assertEqual(words, ["take", "g", "a"])
 
 
 if __name__ == "__main__":

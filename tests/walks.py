@@ -129,3 +129,43 @@ def great_pairs_of_classes(number):
         whole = math.lcm(m, n)
         rows.append(((number % m, m), (number % n, n), (number % whole, whole)))
     return rows
+
+
+def named(balls):
+    """Return the balls with names that run against their order."""
+    return [(name, *ball[1:]) for name, ball in zip("zyxwvutsrqpo", balls)]
+
+
+def games_on(table, many):
+    """Return lists of balls of different names, some of which start at pockets, late or at one point."""
+    balls = some_balls(table)
+    lists = [
+        named([balls[(k + at * (2 + k % 3)) % len(balls)] for at in range(many)]) for k in range(4)]
+    starts = [("b", *pocket, 1, 0, 4) for pocket in table.pockets] + [("b", 0, 0, 0, 1, 9)]
+    return lists + [named((starts + balls[3:])[:many])]
+
+
+def walked_stays(table, balls, last):
+    """Return for each name the dict of the places, up to a last minute, while the ball is on the table."""
+    stays = {}
+    for ball in balls:
+        fall = walked_fall(table, ball)
+        end = last if fall is None else min(fall[0], last)
+        stays[ball[0]] = walked_places(table, ball, end - ball[5] + 1)
+    return stays
+
+
+def shared_minutes(ones, others):
+    """Return the minutes at which two dicts have the same place."""
+    return sorted([minute for minute in ones if minute in others and ones[minute] == others[minute]])
+
+
+def walked_meetings(stays, minute):
+    """Return the first meetings from a minute on of all pairs, by minutes and then by the order of the balls."""
+    rows = []
+    for at, (one, ones) in enumerate(stays.items()):
+        for behind, (other, others) in enumerate(stays.items()):
+            later = [k for k in shared_minutes(ones, others) if k >= minute]
+            if at < behind and later:
+                rows.append((later[0], at, behind, one, other))
+    return [(first, one, other) for first, _, _, one, other in sorted(rows)]
