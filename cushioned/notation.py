@@ -63,11 +63,11 @@ def is_ball_line(words):
     return is_name(name) and is_number(x) and is_number(y) and is_number(minute)
 
 
-def is_number(word):
-    """Tell whether the word is an integer of the notation."""
+def is_number(word, most_digits=MOST_DIGITS):
+    """Tell whether the word is an integer from 0 on with no more than so many digits."""
     if word == "0":
         return True
-    if not 1 <= len(word) <= MOST_DIGITS or word[0] == "0":
+    if not 1 <= len(word) <= most_digits or word[0] == "0":
         return False
     return all([sign in DIGITS for sign in word])
 

@@ -9,8 +9,8 @@ import unittest
 import warnings
 
 from cushioned import (
-    aims, balls, book, commands, congruences, errors, falls, games, meetings, nevers, notation, runs,
-    session, starts, tables, times)
+    aims, balls, book, commands, congruences, crowds, enlarged, errors, falls, games, meetings, nevers,
+    notation, runs, session, starts, tables, texts, times, watches)
 
 PACKAGE = pathlib.Path(__file__).resolve().parent.parent / "cushioned"
 BUILTINS = {
@@ -78,6 +78,35 @@ INTERFACE = {
     book: {"Book": "()"},
     commands: {"split_words": "(line)", "is_command": "(words)"},
     session: {"Session": "()"},
+    texts: {
+        "times_text": "(times)",
+        "parse_times": "(text)",
+        "never_text": "(rows)",
+        "parse_never": "(text)",
+        "check_text": "(table, one, other, text)",
+    },
+    enlarged: {
+        "enlarged": "(table, factor)",
+        "enlarged_ball": "(table, ball, factor)",
+        "factor_of": "(table, other)",
+        "greatest_factor": "(table, balls)",
+        "reduced": "(table, balls)",
+    },
+    crowds: {
+        "half_meetings": "(table, one, other)",
+        "next_half": "(table, one, other, minute)",
+        "all_together": "(table, balls)",
+        "most_together": "(table, balls)",
+        "crowd_at": "(table, balls, minute)",
+    },
+    watches: {
+        "passes": "(table, ball, point, times)",
+        "meets_while": "(table, one, other, times)",
+        "first_pass": "(table, balls, point, minute)",
+        "passes_to": "(table, balls, point, minute)",
+        "is_clear": "(table, balls, point, start, end)",
+        "first_slot": "(table, balls, point, start, end, length)",
+    },
     errors: {
         "UnknownName": "(name)",
         "InvalidNotation": "(line)",
@@ -326,6 +355,105 @@ class ArgumentsTest(unittest.TestCase):
         words = commands.split_words("take g a")
         commands.is_command(words)
         self.assertEqual(words, ["take", "g", "a"])
+
+
+    def test_texts(self):
+        rows = [["pair", 1, 8, 0, 6, 2], ("x",)]
+        before = copy.deepcopy(rows)
+        texts.parse_times(texts.times_text(self.times)).classes.clear()
+        texts.parse_never(texts.never_text(rows)).clear()
+        texts.check_text(self.table, self.balls[0], self.balls[1], texts.never_text(rows))
+        self.assertEqual(rows, before)
+
+    def test_enlarged(self):
+        great = enlarged.enlarged(self.table, 6)
+        before = copy.deepcopy(vars(great))
+        far = [enlarged.enlarged_ball(self.table, ball, 6) for ball in self.balls]
+        enlarged.factor_of(self.table, great)
+        enlarged.greatest_factor(great, far)
+        enlarged.reduced(great, far)[1].clear()
+        enlarged.reduced(self.table, self.balls)[1].clear()
+        self.assertEqual((vars(great), len(far)), (before, 2))
+
+    def test_crowds(self):
+        crowds.half_meetings(self.table, *self.balls).clear()
+        crowds.next_half(self.table, *self.balls, 8)
+        crowds.all_together(self.table, self.balls).clear()
+        crowds.all_together(self.table, self.balls[:1]).clear()
+        crowds.most_together(self.table, self.balls)
+        crowds.crowd_at(self.table, self.balls, 9).clear()
+
+    def test_watches(self):
+        watches.passes(self.table, self.balls[0], self.point, self.times).classes.clear()
+        watches.meets_while(self.table, *self.balls, self.times).classes.clear()
+        watches.first_pass(self.table, self.balls, self.point, 9)
+        watches.passes_to(self.table, self.balls, self.point, 9).clear()
+        watches.is_clear(self.table, self.balls, self.point, 3, 9)
+        watches.first_slot(self.table, self.balls, self.point, 3, 99, 2)
+
+
+class NewListsTest(unittest.TestCase):
+    """The beginning of the interface: a list that is returned is a new list."""
+
+    def setUp(self):
+        self.table = tables.Table(4, 4, [(4, 4), (0, 1)])
+        self.balls = [("a", 0, 0, 1, 1, 0), ("b", 4, 0, -1, 1, 0), ("c", 2, 1, 0, 1, 3)]
+        self.points = [(1, 1), (2, 2)]
+        self.classes = [(1, 4), (3, 8)]
+        self.times = times.Times(0, None, self.classes)
+
+    def calls(self):
+        """Return calls of all functions and methods that return a list, or what holds one."""
+        table, rows, one, other = self.table, self.balls, self.balls[0], self.balls[1]
+        game, kept = games.Game(table, rows), book.Book()
+        kept.set_game("g", table, rows)
+        text = notation.format_setup(table, rows)
+        return [
+            table.corners, lambda: notation.parse_setup(text), lambda: runs.point_minutes(table, one, (2, 2)),
+            lambda: congruences.solved(0, 0, 3), lambda: congruences.solved(0, 1, 3),
+            lambda: congruences.solved(2, 4, 6), lambda: congruences.point_classes(4, 1, 0, 1),
+            lambda: congruences.meeting_classes(4, 1, 1, 3, -1), lambda: times.Times(0, None, self.classes),
+            lambda: times.both(self.times, self.times), lambda: meetings.at_point(table, one, (2, 2)),
+            lambda: meetings.meetings(table, one, other), lambda: meetings.all_meet(table, rows),
+            lambda: nevers.never(table, one, rows[2]), lambda: falls.falls(table, rows),
+            lambda: falls.never_fall(table, rows), lambda: starts.slanting_starts(table),
+            lambda: starts.straight_starts(table), lambda: aims.pocket_aims(table, (1, 1), 3, (4, 4)),
+            lambda: aims.meeting_aims(table, (1, 1), 3, one), lambda: aims.in_order(table, one, self.points),
+            lambda: aims.order_aims(table, (1, 1), 3, self.points), lambda: game.places(1),
+            lambda: game.meetings("a", "b"), game.first_meetings, lambda: game.company("a"), game.fall_order,
+            kept.game_names, lambda: commands.split_words("take g a"),
+            lambda: session.Session().run("games"), lambda: texts.parse_times("times 0 -\nclass 1 4"),
+            lambda: texts.parse_never("never\nx"), lambda: enlarged.reduced(table, rows),
+            lambda: crowds.half_meetings(table, one, ("d", *one[1:])),
+            lambda: crowds.all_together(table, rows[:1]), lambda: crowds.all_together(table, rows),
+            lambda: crowds.crowd_at(table, rows, 4), lambda: watches.passes(table, one, (2, 2), self.times),
+            lambda: watches.meets_while(table, one, other, self.times),
+            lambda: watches.passes_to(table, rows, (2, 2), 30),
+        ]
+
+    def lists_in(self, told):
+        """Return all lists in what a call told."""
+        if isinstance(told, (times.Times, tables.Table)):
+            return self.lists_in(tuple(vars(told).values()))
+        if not isinstance(told, (list, tuple)):
+            return []
+        return [told] * isinstance(told, list) + [row for part in told for row in self.lists_in(part)]
+
+    def test_each_list_is_new(self):
+        known = [self.balls, self.points, self.classes, self.times.classes]
+        for call in self.calls():
+            for found in (self.lists_in(call()), self.lists_in(call())):
+                self.assertGreater(len(found), 0)
+                for row in found:
+                    self.assertFalse(any(row is other for other in known))
+                known += found
+
+    def test_a_list_that_is_changed_changes_no_answer(self):
+        for call in self.calls():
+            expected = copy.deepcopy(self.lists_in(call()))
+            for row in self.lists_in(call()):
+                row.clear()
+            self.assertEqual(self.lists_in(call()), expected)
 
 
 if __name__ == "__main__":
